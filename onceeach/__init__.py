@@ -1,0 +1,1 @@
+"""Onceeach: functions on few numbers that take each worth once."""

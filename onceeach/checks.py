@@ -1,0 +1,64 @@
+"""What the other modules share: looking at what is handed in, and refusing it."""
+
+from onceeach.errors import NoBound, NoFunction, NoNumber
+
+LEAST_BOUND = 2
+GREATEST_BOUND = 16
+MOST_TIMES = 10 ** 30
+
+
+def is_whole(thing):
+    """Tell whether a thing is a whole number."""
+    # Truths are ints to Python, but no whole numbers here.
+    return isinstance(thing, int) and not isinstance(thing, bool)
+
+
+def is_whole_between(thing, least, most):
+    """Tell whether a thing is a whole number from least to most."""
+    return is_whole(thing) and least <= thing <= most
+
+
+def is_number(bound, thing):
+    """Tell whether a thing is one of the numbers of the bound."""
+    return is_whole_between(thing, 0, bound - 1)
+
+
+def is_row(bound, thing):
+    """Tell whether a thing is a tuple of numbers of the bound, however many."""
+    return isinstance(thing, tuple) and all(is_number(bound, number) for number in thing)
+
+
+def fits_function(bound, thing):
+    """Tell whether a thing is a function by what is known to be a bound."""
+    return is_row(bound, thing) and len(thing) == bound
+
+
+def check_bound(bound):
+    """Refuse what is no bound."""
+    if not is_whole_between(bound, LEAST_BOUND, GREATEST_BOUND):
+        raise NoBound(f"a bound is a whole number from {LEAST_BOUND} to {GREATEST_BOUND}")
+
+
+def check_whole(number):
+    """Refuse what is no whole number."""
+    if not is_whole(number):
+        raise NoNumber("a whole number is wanted here")
+
+
+def check_number(bound, number):
+    """Refuse what is no number of the bound, which was looked at before."""
+    if not is_number(bound, number):
+        raise NoNumber(f"a whole number from 0 to {bound - 1} is wanted here")
+
+
+def check_times(k):
+    """Refuse what does not tell how often a thing is done."""
+    if not is_whole_between(k, 0, MOST_TIMES):
+        raise NoNumber(f"a whole number from 0 to {MOST_TIMES} is wanted here")
+
+
+def check_function(bound, function):
+    """Refuse what is no bound, then what is no function by it."""
+    check_bound(bound)
+    if not fits_function(bound, function):
+        raise NoFunction(f"a function by {bound} is a tuple of {bound} numbers from 0 to {bound - 1}")
