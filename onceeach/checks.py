@@ -1,6 +1,6 @@
 """What the other modules share: looking at what is handed in, and refusing it."""
 
-from onceeach.errors import NoBound, NoFunction, NoNumber
+from onceeach.errors import NoBound, NoFunction, NoNumber, NoPoly
 
 LEAST_BOUND = 2
 GREATEST_BOUND = 16
@@ -33,6 +33,11 @@ def fits_function(bound, thing):
     return is_row(bound, thing) and len(thing) == bound
 
 
+def fits_poly(bound, thing):
+    """Tell whether a thing is a polynomial by what is known to be a bound."""
+    return is_row(bound, thing) and (len(thing) == 0 or thing[-1] != 0)
+
+
 def check_bound(bound):
     """Refuse what is no bound."""
     if not is_whole_between(bound, LEAST_BOUND, GREATEST_BOUND):
@@ -62,3 +67,10 @@ def check_function(bound, function):
     check_bound(bound)
     if not fits_function(bound, function):
         raise NoFunction(f"a function by {bound} is a tuple of {bound} numbers from 0 to {bound - 1}")
+
+
+def check_poly(bound, poly):
+    """Refuse what is no bound, then what is no polynomial by it."""
+    check_bound(bound)
+    if not fits_poly(bound, poly):
+        raise NoPoly(f"a polynomial by {bound} is a tuple of numbers from 0 to {bound - 1}, the last one not 0")

@@ -47,6 +47,23 @@ def no_functions(bound):
     return found
 
 
+def some_polys(bound):
+    """Polynomials of many kinds by a bound, with last numbers that have a back and such as have none."""
+    found = [(), (1,), (bound - 1,), (0, 1), (bound - 1, 1), (0,) * 9 + (1,), (1,) * 20]
+    for last in range(1, bound):
+        found += [(last,), (0, last), (last, 0, 1, last), tuple((last * k + 1) % bound for k in range(5)) + (last,)]
+    return list(dict.fromkeys(found))
+
+
+def no_polys(bound):
+    """Things that are no polynomials by a bound."""
+    found = [[], [1], [0, 1], (0,), (1, 0), (0, 0), (1,) * 16 + (0,), None, True, False, 0, 1, "", "1", "none", {}]
+    found += [{0: 1}, ((),), ((1,),)]
+    for wrong in no_numbers(bound):
+        found += [(wrong,), (wrong, 1), (1, wrong), (1, wrong, 1)]
+    return found
+
+
 class Refusals(unittest.TestCase):
     """A test case that looks at refusals."""
 
