@@ -1,9 +1,10 @@
 """What the other modules share: looking at what is handed in, and refusing it."""
 
-from onceeach.errors import NoBound, NoFunction, NoNumber, NoPoly
+from onceeach.errors import NoBound, NoFunction, NoNumber, NoPoly, NoPrime, TooGreat
 
 LEAST_BOUND = 2
 GREATEST_BOUND = 16
+PRIMES = (2, 3, 5, 7, 11, 13)
 MOST_TIMES = 10 ** 30
 
 
@@ -44,22 +45,40 @@ def check_bound(bound):
         raise NoBound(f"a bound is a whole number from {LEAST_BOUND} to {GREATEST_BOUND}")
 
 
+def check_bound_to(bound, most):
+    """Refuse what is no bound, then a bound that is greater than most."""
+    check_bound(bound)
+    if bound > most:
+        raise TooGreat(bound, most)
+
+
+def check_prime(prime):
+    """Refuse what is no bound, then a bound that is no prime."""
+    check_bound(prime)
+    if prime not in PRIMES:
+        raise NoPrime(f"{prime} is no prime")
+
+
 def check_whole(number):
     """Refuse what is no whole number."""
     if not is_whole(number):
         raise NoNumber("a whole number is wanted here")
 
 
+def check_between(number, least, most):
+    """Refuse what is no whole number from least to most."""
+    if not is_whole_between(number, least, most):
+        raise NoNumber(f"a whole number from {least} to {most} is wanted here")
+
+
 def check_number(bound, number):
     """Refuse what is no number of the bound, which was looked at before."""
-    if not is_number(bound, number):
-        raise NoNumber(f"a whole number from 0 to {bound - 1} is wanted here")
+    check_between(number, 0, bound - 1)
 
 
 def check_times(k):
     """Refuse what does not tell how often a thing is done."""
-    if not is_whole_between(k, 0, MOST_TIMES):
-        raise NoNumber(f"a whole number from 0 to {MOST_TIMES} is wanted here")
+    check_between(k, 0, MOST_TIMES)
 
 
 def check_function(bound, function):

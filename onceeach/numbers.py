@@ -43,6 +43,13 @@ def find_back(bound, number):
     return None
 
 
+def greatest_in_both(one, other):
+    """Tell the greatest number that goes into two whole numbers from 1 on."""
+    while other > 0:
+        one, other = other, one % other
+    return one
+
+
 def joined_often(none, one, k, join_two):
     """Tell k times one joined to another, none where k is 0."""
     # Doubling and halving keeps it at some hundred joinings even for 10 ** 30 times.

@@ -5,6 +5,7 @@ import unittest
 
 BOUNDS = list(range(2, 17))
 PRIMES = [2, 3, 5, 7, 11, 13]
+NO_PRIMES = [4, 6, 8, 9, 10, 12, 14, 15, 16]
 MOST_TIMES = 10 ** 30
 NO_WHOLE_NUMBERS = [None, True, False, "", "1", "none", [], [1], (), (1,), {}, {1: 1}]
 NO_BOUNDS = [-16, -2, -1, 0, 1, 17, 18, 10 ** 30, [2], (2,), {2: 2}, "2"] + NO_WHOLE_NUMBERS
