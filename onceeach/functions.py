@@ -49,9 +49,14 @@ def missed(bound, function):
 
 def turned_back(bound, function):
     """Tell the function that leads each worth to its number."""
-    if not is_once(bound, function):
-        raise Apart("two numbers have one worth")
+    check_once(bound, function)
     back = [0] * bound
     for number, worth in enumerate(function):
         back[worth] = number
     return tuple(back)
+
+
+def check_once(bound, function):
+    """Refuse what is no bound, then what is no function by it, then a function that is not once."""
+    if not is_once(bound, function):
+        raise Apart("two numbers have one worth")

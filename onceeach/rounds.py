@@ -1,15 +1,13 @@
 """The rounds of a function that is once, and where doing a function many times comes round."""
 
 from onceeach.checks import check_function
-from onceeach.errors import Apart
-from onceeach.functions import is_once, put_in
+from onceeach.functions import check_once, put_in
 from onceeach.numbers import greatest_in_both
 
 
 def rounds_of(bound, function):
     """Tell the list of the rounds of a function that is once, by their least numbers."""
-    if not is_once(bound, function):
-        raise Apart("two numbers have one worth")
+    check_once(bound, function)
     found = []
     for number in range(bound):
         numbers = round_from(function, number)

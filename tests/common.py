@@ -1,6 +1,7 @@
 """What several test files share."""
 
 import inspect
+import itertools
 import unittest
 
 BOUNDS = list(range(2, 17))
@@ -24,6 +25,20 @@ def identity(bound):
 def with_at(row, at, number):
     """The tuple with another number at one place."""
     return row[:at] + (number,) + row[at + 1:]
+
+
+def all_functions(bound):
+    return list(itertools.product(range(bound), repeat=bound))
+
+
+def all_polys(bound, most):
+    """All polynomials by a bound of at most so many numbers."""
+    return [poly for many in range(most + 1) for poly in itertools.product(range(bound), repeat=many)
+            if not poly or poly[-1] != 0]
+
+
+def worths_due(bound, poly):
+    return tuple(sum(number * x ** k for k, number in enumerate(poly)) % bound for x in range(bound))
 
 
 def some_functions(bound):

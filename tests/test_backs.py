@@ -7,12 +7,8 @@ from onceeach.errors import Apart, NoBound, NoNumber, NoPoly
 from onceeach.polys import is_poly, worths
 from onceeach.steps import poly_by
 from tests.common import (
-    BOUNDS, MOST_TIMES, NO_BOUNDS, NO_TIMES, PRIMES, Refusals, identity, no_polys, some_polys,
+    BOUNDS, MOST_TIMES, NO_BOUNDS, NO_TIMES, PRIMES, Refusals, identity, no_polys, some_polys, worths_due,
 )
-
-
-def worths_due(bound, poly):
-    return tuple(sum(number * x ** k for k, number in enumerate(poly)) % bound for x in range(bound))
 
 
 def done_due(bound, function, k):

@@ -8,6 +8,7 @@ from onceeach.errors import NoBound, NoFunction, NoNumber, NoPoly, NoPrime
 from onceeach.polys import is_poly, worths
 from tests.common import (
     NO_BOUNDS, NO_PRIMES, PRIMES, Refusals, identity, no_functions, no_numbers, no_polys, some_functions, some_polys,
+    worths_due,
 )
 
 
@@ -18,10 +19,6 @@ def sums_due(prime, function):
 def swapped(prime, a, b):
     """The function that leads a to b, b to a, and all else to itself."""
     return tuple(b if x == a else a if x == b else x for x in range(prime))
-
-
-def worths_due(prime, poly):
-    return tuple(sum(number * x ** k for k, number in enumerate(poly)) % prime for x in range(prime))
 
 
 def multiplied(prime, one, other):

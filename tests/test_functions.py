@@ -1,17 +1,12 @@
 """1.2 and 1.3: functions, putting in, doing again, once, clashes and turning back."""
 
 import copy
-import itertools
 
 from onceeach.errors import Apart, NoBound, NoFunction, NoNumber
 from onceeach.functions import again, first_clash, is_function, is_once, missed, put_in, turned_back
 from tests.common import (
-    BOUNDS, MOST_TIMES, NO_BOUNDS, NO_TIMES, Refusals, identity, no_functions, some_functions,
+    BOUNDS, MOST_TIMES, NO_BOUNDS, NO_TIMES, Refusals, all_functions, identity, no_functions, some_functions,
 )
-
-
-def all_functions(bound):
-    return list(itertools.product(range(bound), repeat=bound))
 
 
 class TestIsFunction(Refusals):
