@@ -1,6 +1,6 @@
 """What the other modules share: looking at what is handed in, and refusing it."""
 
-from onceeach.errors import NoBound, NoFunction, NoNumber, NoPoly, NoPrime, TooGreat
+from onceeach.errors import NoBound, NoFunction, NoList, NoNumber, NoPoly, NoPrime, TooGreat
 
 LEAST_BOUND = 2
 GREATEST_BOUND = 16
@@ -93,3 +93,16 @@ def check_poly(bound, poly):
     check_bound(bound)
     if not fits_poly(bound, poly):
         raise NoPoly(f"a polynomial by {bound} is a tuple of numbers from 0 to {bound - 1}, the last one not 0")
+
+
+def check_list(things, least, most):
+    """Refuse what is no list of from least to most things."""
+    if not isinstance(things, list) or not least <= len(things) <= most:
+        raise NoList(-1)
+
+
+def check_each_function(bounds, things):
+    """Refuse the first one of as many things as bounds that is no function by its bound."""
+    for at, bound in enumerate(bounds):
+        if not fits_function(bound, things[at]):
+            raise NoList(at)

@@ -1,7 +1,7 @@
 """The parts of a bound, the greatest powers of primes that go into it, and functions taken apart by them."""
 
-from onceeach.checks import PRIMES, check_bound, check_function, fits_function
-from onceeach.errors import Apart, NoList, NoNumber
+from onceeach.checks import PRIMES, check_bound, check_each_function, check_function, check_list
+from onceeach.errors import Apart, NoNumber
 
 
 def parts_of(bound):
@@ -26,7 +26,8 @@ def part_of(bound, function, part):
 def sewn(bound, things):
     """Tell the function by the bound whose parts are these functions, one by each part in their order."""
     parts = parts_of(bound)
-    check_sewn(parts, things)
+    check_list(things, len(parts), len(parts))
+    check_each_function(parts, things)
     return tuple(number_with(bound, parts, rests_at(parts, things, x)) for x in range(bound))
 
 
@@ -36,15 +37,6 @@ def greatest_power(bound, prime):
     while bound % (power * prime) == 0:
         power *= prime
     return power
-
-
-def check_sewn(parts, things):
-    """Refuse what is no list of as many functions as parts, each by its part."""
-    if not isinstance(things, list) or len(things) != len(parts):
-        raise NoList(-1)
-    for at, part in enumerate(parts):
-        if not fits_function(part, things[at]):
-            raise NoList(at)
 
 
 def rests_at(parts, functions, x):

@@ -39,6 +39,8 @@ def names_bound(tree):
             found.append(node.arg)
         elif isinstance(node, ast.Name) and isinstance(node.ctx, ast.Store):
             found.append(node.id)
+        elif isinstance(node, ast.MatchAs) and node.name is not None:
+            found.append(node.name)
     return found
 
 
@@ -91,6 +93,17 @@ class TestLanguage(unittest.TestCase):
                     defining = ast.parse((PACKAGE / f"{name}.py").read_text(encoding="utf-8"))
                     for taken in node.names:
                         self.assertIn(taken.name, names_bound(defining), file)
+
+    def test_no_two_import_from_each_other(self):
+        needs = {}
+        for file, text, tree in each_file():
+            taken = [node.module.split(".")[1] for node in tree.body if isinstance(node, ast.ImportFrom)]
+            needs[file.removesuffix(".py")] = set(taken)
+        while needs:
+            free = [file for file in needs if not needs[file] & set(needs)]
+            self.assertNotEqual([], free, needs)
+            for file in free:
+                del needs[file]
 
     def test_statements(self):
         for file, text, tree in each_file():
